@@ -1,0 +1,1 @@
+"""Words parted by patterns: lists changed, needless patterns, margins, words put together."""
