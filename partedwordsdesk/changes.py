@@ -17,6 +17,21 @@ def with_item(listing, item):
     return Listing(listing.left, listing.right, listing.words, with_entry(listing.patterns, item))
 
 
+def without_entry(entries, number):
+    """The words, or the patterns, when one is dropped: those behind it move up."""
+    return entries[:number] + entries[number + 1:]
+
+
+def without_word(listing, number):
+    """The list when a word is dropped."""
+    return Listing(listing.left, listing.right, without_entry(listing.words, number), listing.patterns)
+
+
+def without_pattern(listing, number):
+    """The list when a pattern is dropped."""
+    return Listing(listing.left, listing.right, listing.words, without_entry(listing.patterns, number))
+
+
 def is_too_long(listing):
     """Whether there are more words or patterns than a list may have."""
     return len(listing.words) > MOST_WORDS or len(listing.patterns) > MOST_PATTERNS

@@ -40,6 +40,11 @@ class Listing:
         self.patterns = patterns
 
 
+def is_word_long(letters):
+    """Whether these are as many letters as a word may have."""
+    return LEAST_WORD_LETTERS <= len(letters) <= MOST_WORD_LETTERS
+
+
 def word_of(chunk):
     """The word that a chunk tells, or None if it tells none."""
     gaps = []
@@ -51,7 +56,7 @@ def word_of(chunk):
         gaps.append(len(letters))
     # the last part ends where the word does, and no - stands there
     gaps.pop()
-    if len(letters) < LEAST_WORD_LETTERS or len(letters) > MOST_WORD_LETTERS:
+    if not is_word_long(letters):
         return None
     return Word(chunk, letters, gaps)
 

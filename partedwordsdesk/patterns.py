@@ -1,21 +1,33 @@
 """The calls on one object that holds a list or none, and their answers."""
 
-from partedwordsdesk.changes import is_too_long, touched, with_item
+from partedwordsdesk.changes import is_too_long, touched, with_item, without_pattern, without_word
+from partedwordsdesk.joining import breaking_gaps, joints, parted_as_two
 from partedwordsdesk.listing import one_form
-from partedwordsdesk.parting import fitting_patterns, greatest_level, held_against, odd_gaps, tried_margins
-from partedwordsdesk.reading import read_item, read_list
+from partedwordsdesk.parting import fitting_patterns, greatest_level, held_against, odd_gaps, parted_gaps, tried_margins
+from partedwordsdesk.reading import read_item, read_letters, read_list
+from partedwordsdesk.slimming import needless_patterns, slimmed
 from partedwordsdesk.tokens import Fault
 
 LOAD = 0
 SHOWN = 1
 REPORT = 2
 MARGINS = 3
+PUT = 4
+DROP = 5
+NEEDLESS = 6
+SLIM = 7
+JOINT = 8
 
 # a call's number alone doesn't tell where the next call begins: what stands behind it does, from call 0 on
-GIVEN = (("row",), (), ("number",), (), ("row",))
+GIVEN = (("row",), (), ("number",), (), ("row",), ("number", "number"), (), (), ("row",), ("number", "row"))
+
+DROPPED_WORD = 0
+DROPPED_PATTERN = 1
+MOST_PLACES = 100
 
 NO_LIST = -1
 NO_SUCH = -2
+NO_LINE = -3
 NOT_RIGHT = -4
 TOO_MANY = -5
 
@@ -25,6 +37,11 @@ class Desk:
 
     def __init__(self):
         self.held = None
+
+
+def counted(numbers):
+    """Numbers behind how many they are."""
+    return [len(numbers)] + numbers
 
 
 def load(desk, text):
@@ -39,13 +56,17 @@ def load(desk, text):
 
 def shown(listing):
     """The answer of shown."""
-    form = one_form(listing)
-    return [len(form)] + form
+    return counted(one_form(listing))
+
+
+def has_number(entries, number):
+    """Whether one of the words, or of the patterns, has this number."""
+    return 0 <= number < len(entries)
 
 
 def report(listing, number):
     """The answer of report."""
-    if number < 0 or number >= len(listing.words):
+    if not has_number(listing.words, number):
         return [NO_SUCH]
     word = listing.words[number]
     odd = odd_gaps(listing.patterns, word.letters)
@@ -53,7 +74,14 @@ def report(listing, number):
     exact = 1 if counts[1] == 0 and counts[2] == 0 else 0
     level = greatest_level(listing.patterns, word.letters)
     fitting = fitting_patterns(listing.patterns, word.letters)
-    return [exact] + list(counts) + [level, len(fitting)] + fitting
+    return [exact] + list(counts) + [level] + counted(fitting)
+
+
+def become(desk, changed):
+    """The answer of a change to this list, which is held from now on."""
+    numbers = touched(desk.held, changed)
+    desk.held = changed
+    return [len(changed.words), len(changed.patterns)] + counted(numbers)
 
 
 def put(desk, text):
@@ -65,9 +93,73 @@ def put(desk, text):
     changed = with_item(desk.held, item)
     if is_too_long(changed):
         return [TOO_MANY]
-    numbers = touched(desk.held, changed)
-    desk.held = changed
-    return [len(changed.words), len(changed.patterns), len(numbers)] + numbers
+    return become(desk, changed)
+
+
+def drop(desk, kind, number):
+    """The answer of drop; the list without that word or pattern is held from now on, if there is one."""
+    if kind != DROPPED_WORD and kind != DROPPED_PATTERN:
+        return [NOT_RIGHT]
+    entries = desk.held.words if kind == DROPPED_WORD else desk.held.patterns
+    if not has_number(entries, number):
+        return [NO_SUCH]
+    if kind == DROPPED_WORD:
+        return become(desk, without_word(desk.held, number))
+    return become(desk, without_pattern(desk.held, number))
+
+
+def slim(desk):
+    """The answer of slim; the list made slim is held from now on."""
+    before = len(desk.held.patterns)
+    desk.held = slimmed(desk.held)
+    left = len(desk.held.patterns)
+    return [left, before - left]
+
+
+def joint(listing, row):
+    """The answer of joint."""
+    letters = read_letters(row)
+    if letters is None:
+        return [NOT_RIGHT]
+    found = joints(listing.words, letters)
+    told = [len(found)]
+    if len(found) > 0:
+        told = told + [found[0]] + counted(parted_as_two(listing, letters, found[0]))
+    return told + counted(parted_gaps(listing, letters))
+
+
+def line_break(listing, places, row):
+    """The answer of break."""
+    letters = read_letters(row)
+    if letters is None:
+        return [NOT_RIGHT]
+    if places < 0 or places > MOST_PLACES:
+        return [NO_LINE]
+    found = breaking_gaps(listing, letters, places)
+    if len(found) == 0:
+        return [0]
+    return [1, found[-1]]
+
+
+def listed_answer(desk, call):
+    """The answer of one call but load while there is a list."""
+    if call[0] == SHOWN:
+        return shown(desk.held)
+    if call[0] == REPORT:
+        return report(desk.held, call[1])
+    if call[0] == MARGINS:
+        return tried_margins(desk.held)
+    if call[0] == PUT:
+        return put(desk, call[1])
+    if call[0] == DROP:
+        return drop(desk, call[1], call[2])
+    if call[0] == NEEDLESS:
+        return counted(needless_patterns(desk.held))
+    if call[0] == SLIM:
+        return slim(desk)
+    if call[0] == JOINT:
+        return joint(desk.held, call[1])
+    return line_break(desk.held, call[1], call[2])
 
 
 def answer(desk, call):
@@ -76,13 +168,7 @@ def answer(desk, call):
         return load(desk, call[1])
     if desk.held is None:
         return [NO_LIST]
-    if call[0] == SHOWN:
-        return shown(desk.held)
-    if call[0] == REPORT:
-        return report(desk.held, call[1])
-    if call[0] == MARGINS:
-        return tried_margins(desk.held)
-    return put(desk, call[1])
+    return listed_answer(desk, call)
 
 
 def split_calls(calls):

@@ -1,7 +1,7 @@
-"""Texts read as a list, or as an item that is put into one."""
+"""Texts read as a list, as an item that is put into one, or as letters alone."""
 
-from partedwordsdesk.listing import MOST_PATTERNS, MOST_WORDS, Listing, number_of, pattern_of, word_of
-from partedwordsdesk.tokens import Fault, tokens_of
+from partedwordsdesk.listing import MOST_PATTERNS, MOST_WORDS, Listing, is_word_long, number_of, pattern_of, word_of
+from partedwordsdesk.tokens import Fault, chunk_at, tokens_of
 
 MARGIN_CHUNKS = ("0", "1", "2", "3", "4", "5")
 
@@ -92,3 +92,11 @@ def read_item(text):
         item = read_entry(reader, "pattern", pattern_of, [])
     reader.take("")
     return item
+
+
+def read_letters(row):
+    """The 2 to 16 small letters that a row of bytes is, or None if it is anything else."""
+    letters = chunk_at(row, 0)
+    if len(letters) < len(row) or not letters.isalpha() or not is_word_long(letters):
+        return None
+    return letters

@@ -7,6 +7,10 @@ WORKED = (
 )
 SHOWN = [1]
 MARGINS = [3]
+NEEDLESS = [6]
+SLIM = [7]
+WORD, PATTERN = 0, 1
+FARTHEST = 10 ** 18
 
 
 def as_bytes(text):
@@ -29,6 +33,28 @@ def report(number):
 
 def put(text):
     return [4] + row(text)
+
+
+def drop(kind, number):
+    return [5, kind, number]
+
+
+def joint(letters):
+    return [8] + row(letters)
+
+
+def line_break(places, letters):
+    return [9, places] + row(letters)
+
+
+def wrong_letters():
+    """Rows that are not 2 to 16 small letters: their number, each byte at each end, what a text may have."""
+    found = [as_bytes("x" * size) for size in (0, 1, 17, 40, 41, 4097, 8192)]
+    for byte in range(256):
+        if byte not in range(97, 123):
+            found += [[byte], [byte, 97], [97, byte], [97, byte, 97], [97, 97, byte], [byte, 97, 97]]
+    texts = "ta-ble", " able", "able ", "able\n", "able#", "able;", ".able", "able.", "a1b", "ab le"
+    return found + [as_bytes(text) for text in texts]
 
 
 def apart(told):
@@ -140,19 +166,28 @@ class PlainDesk:
     def form(self):
         return form(self.left, self.right, self.words, self.patterns)
 
+    def parted_letters(self, letters):
+        return plain_parted(self.left, self.right, letters, self.patterns)
+
     def parted(self):
-        return {
-            plain_letters(word): plain_parted(self.left, self.right, plain_letters(word), self.patterns)
-            for word in self.words
-        }
+        return {plain_letters(word): self.parted_letters(plain_letters(word)) for word in self.words}
+
+    def told(self, words, before):
+        """The answer of a change, by the words of before and how they were parted."""
+        after = self.parted()
+        touched = []
+        for number, word in enumerate(words):
+            letters = plain_letters(word)
+            if letters in after and after[letters] != before[letters]:
+                touched.append(number)
+        return [len(self.words), len(self.patterns), len(touched)] + touched
 
     def put(self, name, chunk):
         """The answer of putting a right item, or -5."""
         entries = self.words if name == "word" else self.patterns
         same = plain_letters if name == "word" else plain_key
         most = 24 if name == "word" else 40
-        before_words = list(self.words)
-        before = self.parted()
+        words, before = list(self.words), self.parted()
         places = [n for n, entry in enumerate(entries) if same(entry) == same(chunk)]
         if places:
             entries[places[0]] = chunk
@@ -160,19 +195,69 @@ class PlainDesk:
             return [-5]
         else:
             entries.append(chunk)
-        after = self.parted()
-        touched = [
-            n for n, word in enumerate(before_words)
-            if before[plain_letters(word)] != after[plain_letters(word)]
-        ]
-        return [len(self.words), len(self.patterns), len(touched)] + touched
+        return self.told(words, before)
 
-    def answers(self):
-        """What every call that changes nothing has to answer."""
+    def drop(self, kind, number):
+        if kind not in (0, 1):
+            return [-4]
+        entries = (self.words, self.patterns)[kind]
+        if number not in range(len(entries)):
+            return [-2]
+        words, before = list(self.words), self.parted()
+        del entries[number]
+        return self.told(words, before)
+
+    def without(self, pattern):
+        rest = [one for one in self.patterns if one != pattern]
+        return PlainDesk(self.left, self.right, self.words, rest)
+
+    def needless(self):
+        parted = self.parted()
+        found = [n for n, one in enumerate(self.patterns) if self.without(one).parted() == parted]
+        return [len(found)] + found
+
+    def slim_once(self, parted):
+        for pattern in list(self.patterns):
+            if self.without(pattern).parted() == parted:
+                self.patterns = self.without(pattern).patterns
+
+    def slim(self):
+        parted = self.parted()
+        sizes = [len(self.patterns), -1]
+        while sizes[-1] != sizes[-2]:
+            self.slim_once(parted)
+            sizes.append(len(self.patterns))
+        return [sizes[-1], sizes[0] - sizes[-1]]
+
+    def joint(self, letters):
+        """The answer of joint for 2 to 16 small letters."""
+        listed = [plain_letters(word) for word in self.words]
+        joints = [gap for gap in range(len(letters) + 1) if letters[:gap] in listed and letters[gap:] in listed]
+        one = sorted(self.parted_letters(letters))
+        told = [len(joints)]
+        if joints:
+            first = joints[0]
+            back = {first + gap for gap in self.parted_letters(letters[first:])}
+            two = sorted(self.parted_letters(letters[:first]) | {first} | back)
+            told += [first, len(two)] + two
+        return told + [len(one)] + one
+
+    def line_break(self, places, letters):
+        """The answer of break for 2 to 16 small letters and 0 to 100 places."""
+        found = [gap for gap in self.parted_letters(letters) if len(letters[:gap]) + 1 <= places]
+        return [1, max(found)] if found else [0]
+
+    def report(self, number):
+        if number not in range(len(self.words)):
+            return [-2]
+        return plain_report(self.left, self.right, self.words[number], self.patterns)
+
+    def shown(self):
         text = self.form()
-        told = [[len(text)] + as_bytes(text)]
-        told += [plain_report(self.left, self.right, word, self.patterns) for word in self.words]
-        return told + [plain_margins(self.words, self.patterns)]
+        return [len(text)] + as_bytes(text)
+
+    def margins(self):
+        return plain_margins(self.words, self.patterns)
 
 
 class Chance:
