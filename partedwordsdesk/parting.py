@@ -15,6 +15,9 @@ def fits_at(pattern, letters, place):
 
 def fitting_places(pattern, letters):
     """All places where a pattern fits in these letters."""
+    # most patterns stand nowhere in most words: slim, which asks very often, is much quicker so
+    if pattern.letters not in letters:
+        return []
     return [place for place in range(len(letters)) if fits_at(pattern, letters, place)]
 
 
